@@ -1,0 +1,242 @@
+"""A narrow reading of LANGUAGE.md: what the package may contain so far.
+
+It allows less than the document does, so that it stays simple. A part of the language that the package
+comes to need is to be added here, with the rule that allows it.
+"""
+
+import ast
+import builtins
+import re
+
+PACKAGE = "sortclues"
+LONGEST_FUNCTION, LONGEST_FILE, LONGEST_LINE = 40, 399, 120  # L10
+
+NODES = (  # L4 to L7: what may stand in a function
+    ast.arguments, ast.arg, ast.Expr, ast.Assign, ast.AugAssign, ast.If, ast.While, ast.For, ast.Return, ast.Break,
+    ast.Continue, ast.Pass, ast.Raise, ast.Name, ast.Load, ast.Store, ast.Constant, ast.Attribute, ast.Subscript,
+    ast.Slice, ast.Tuple, ast.List, ast.Dict, ast.ListComp, ast.DictComp, ast.SetComp, ast.comprehension, ast.Call,
+    ast.keyword, ast.Compare, ast.Eq, ast.NotEq, ast.Lt, ast.LtE, ast.Gt, ast.GtE, ast.Is, ast.IsNot, ast.In, ast.NotIn,
+    ast.BoolOp, ast.And, ast.Or, ast.UnaryOp, ast.Not, ast.USub, ast.BinOp, ast.Add, ast.Sub, ast.Mult, ast.FloorDiv,
+    ast.Mod, ast.IfExp, ast.JoinedStr, ast.FormattedValue)
+BUILTINS = (  # L8, without those whose use has rules of its own that are not checked here
+    "len range enumerate zip min max sum abs sorted reversed int str bool list tuple dict set isinstance any all "
+    "ValueError super").split()
+METHODS = (  # L25, the first list
+    "append clear copy count endswith extend find get index insert isalnum isalpha isdigit islower isspace isupper "
+    "items join keys ljust lower lstrip partition pop remove replace reverse rfind rjust rpartition rsplit rstrip "
+    "setdefault split splitlines startswith strip update upper values zfill bit_length").split()
+SPECIAL = ("__init__",)  # L5
+BARRED = (  # L17
+    "register mro elements open input law version_info with_traceback add_note attrgetter breakpoint builtins compile "
+    "copyright credits delattr dir eval exec exit gc getattr globals hasattr help id importlib license locals "
+    "methodcaller os quit setattr type vars sys").split()
+BARRED_WORDS = (  # L17, L12
+    r"\b(type|typing|typing_extensions|enum|Enum|IntEnum|StrEnum|Flag|IntFlag|Generic|Protocol|ABC|ABCMeta|namedtuple|"
+    r"NamedTuple|TypedDict|TYPE_CHECKING|abstractmethod)\b|dataclass|overload|contextmanager|_wall|_WallAttr")
+
+
+def faults(sources):
+    """What is wrong with a package, given as a dict of file names and texts."""
+    found = []
+    trees = {}
+    for name, text in sources.items():
+        found += [f"{name}: {fault}" for fault in text_faults(name, text)]
+        trees[name] = ast.parse(text)
+        found += [f"{name}: {fault}" for fault in file_faults(trees[name])]
+    return found + list(import_faults(trees))
+
+
+def text_faults(name, text):
+    """L1, L10, L14, L17, L27: what can be seen without reading the code."""
+    lines = text.split("\n")
+    if not re.fullmatch(r"[a-z][a-z0-9_]*\.py|__init__\.py", name):
+        yield "L1, L14: the name of the file"
+    if re.search(r"[^ -~\n]", text) or not text.endswith("\n"):
+        yield "L14: a character"
+    if len(lines) - 1 > LONGEST_FILE or max(len(line) for line in lines) > LONGEST_LINE:
+        yield "L10: the size of the file or of a line"
+    if re.search(BARRED_WORDS, text):
+        yield "L12, L17: a word"
+    if re.search(r"""\\[^nt"']""", text.replace("\\\\", "")):
+        yield "L27: an escape"
+
+
+def file_faults(tree):
+    """L3: the module level; then all that stands in functions and classes."""
+    names = []
+    for place, part in enumerate(tree.body):
+        if isinstance(part, ast.FunctionDef):
+            yield from function_faults(part)
+        elif isinstance(part, ast.ClassDef):
+            yield from class_faults(part)
+        elif isinstance(part, ast.Assign):
+            yield from ["L3: a value"] * (len(part.targets) != 1 or not is_plain_value(part.value))
+        elif isinstance(part, ast.Import):
+            yield f"L2: line {part.lineno}"
+        elif not isinstance(part, ast.ImportFrom) and not (place == 0 and is_docstring(part)):
+            yield f"L3: line {part.lineno}"
+        names += bound_names(part)
+    yield from [f"L15: {name} is bound twice" for name in set(names) if names.count(name) > 1]
+    yield from [f"L12, L15, L17: the name {name}" for name in names if is_barred(name)]
+    yield from own_name_faults(tree, names)
+
+
+def bound_names(part):
+    """The names that a statement at module level binds."""
+    if isinstance(part, ast.ImportFrom):
+        return [alias.asname or alias.name for alias in part.names]
+    if isinstance(part, ast.Assign):
+        return [target.id for target in part.targets if isinstance(target, ast.Name)]
+    return [part.name] if isinstance(part, (ast.FunctionDef, ast.ClassDef)) else []
+
+
+def is_docstring(part):
+    """Whether a statement is a string alone."""
+    return isinstance(part, ast.Expr) and isinstance(part.value, ast.Constant) and isinstance(part.value.value, str)
+
+
+def is_plain_value(value):
+    """Whether a value is an integer, a string, True, False, None, or a tuple of such."""
+    if isinstance(value, ast.UnaryOp) and isinstance(value.op, ast.USub):
+        return isinstance(value.operand, ast.Constant) and isinstance(value.operand.value, int)
+    if isinstance(value, ast.Tuple):
+        return all(is_plain_value(part) for part in value.elts)
+    return isinstance(value, ast.Constant) and isinstance(value.value, (int, str, type(None)))
+
+
+def is_barred(name):
+    """L12, L15, L17: names that nothing may have."""
+    if name in SPECIAL or name == "_":
+        return False
+    return not re.fullmatch(r"_?[A-Za-z][A-Za-z0-9_]*", name) or name in BARRED or name in vars(builtins)
+
+
+def own_name_faults(tree, names):
+    """L15: no parameter or local variable has the name of a class or an import; L8: the builtins."""
+    heads = [part for part in tree.body if isinstance(part, (ast.ClassDef, ast.ImportFrom))]
+    taken = [name for part in heads for name in bound_names(part)]
+    local = [node.arg for node in ast.walk(tree) if isinstance(node, ast.arg)]
+    local += [node.id for part in tree.body if isinstance(part, (ast.FunctionDef, ast.ClassDef))
+              for node in ast.walk(part) if isinstance(node, ast.Name) and isinstance(node.ctx, ast.Store)]
+    yield from [f"L15: {name} is taken" for name in local if name in taken]
+    yield from [f"L12, L15, L17: the name {name}" for name in local if is_barred(name)]
+    for node in ast.walk(tree):
+        if isinstance(node, ast.Name) and node.id not in names + local + BUILTINS:
+            yield f"L8: {node.id} in line {node.lineno}"
+        if isinstance(node, ast.Attribute) and is_barred(node.attr):
+            yield f"L17: .{node.attr} in line {node.lineno}"
+
+
+def class_faults(part):
+    """L5, L18: classes."""
+    if part.decorator_list or part.keywords or len(part.bases) > 1:
+        yield f"L5: the head of {part.name}"
+    for place, inner in enumerate(part.body):
+        if isinstance(inner, ast.FunctionDef):
+            yield from function_faults(inner)
+            yield from [f"L5: {inner.name}"] * (inner.name.startswith("__") and inner.name not in SPECIAL)
+            yield from [f"L12, L17: {inner.name}"] * is_barred(inner.name)
+        elif not (place == 0 and is_docstring(inner)):
+            yield f"L5: line {inner.lineno}"
+
+
+def function_faults(function):
+    """L4 to L25: one function or method."""
+    if function.end_lineno - function.lineno >= LONGEST_FUNCTION:
+        yield f"L10: {function.name} is long"
+    arguments = function.args
+    if function.decorator_list or arguments.vararg or arguments.kwarg or arguments.posonlyargs:
+        yield f"L4: the head of {function.name}"
+    if function.returns or any(node.annotation for node in ast.walk(arguments) if isinstance(node, ast.arg)):
+        yield f"L21: {function.name}"
+    defaults = arguments.defaults + [default for default in arguments.kw_defaults if default]
+    if not all(is_plain_value(default) for default in defaults):
+        yield f"L4: a default value of {function.name}"
+    for part in [arguments] + function.body:
+        for node in ast.walk(part):
+            if not isinstance(node, NODES):
+                yield f"L4, L6, L7, L21: {type(node).__name__} in {function.name}"
+    yield from [fault for node in ast.walk(function) for fault in node_faults(node)]
+    yield from set_faults(function)
+
+
+def node_faults(node):
+    """L7, L19, L20, L22, L23, L25, L27: one piece of code."""
+    if isinstance(node, ast.Constant) and not isinstance(node.value, (int, str, type(None))):
+        yield f"L7: a value in line {node.lineno}"
+    if isinstance(node, ast.Constant) and isinstance(node.value, str) and chr(37) in node.value:
+        yield f"L27: a character in line {node.lineno}"
+    if isinstance(node, ast.Compare) and any(isinstance(sign, (ast.Is, ast.IsNot)) for sign in node.ops):
+        if not all(isinstance(side, ast.Constant) and side.value in (None, True, False) for side in node.comparators):
+            yield f"L20: line {node.lineno}"
+    if isinstance(node, ast.Raise) and node.exc is not None:
+        if not (isinstance(node.exc, ast.Call) and isinstance(node.exc.func, ast.Name) and not node.exc.keywords):
+            yield f"L19: line {node.lineno}"
+    if isinstance(node, ast.Call) and isinstance(node.func, ast.Attribute):
+        if node.func.attr not in METHODS + ["__init__"] or node.keywords:
+            yield f"L25: line {node.lineno}"
+    if isinstance(node, ast.Call) and any(isinstance(part, ast.Starred) for part in node.args):
+        yield f"L7: a star in line {node.lineno}"
+    if isinstance(node, (ast.Assign, ast.Return)) and is_call_of(node.value, "zip range enumerate reversed".split()):
+        yield f"L23: line {node.lineno}"
+
+
+def is_call_of(node, names):
+    """Whether a piece of code is a call of one of these builtins."""
+    return isinstance(node, ast.Call) and isinstance(node.func, ast.Name) and node.func.id in names
+
+
+def set_faults(function):
+    """L24: sets stand in len(..) or sorted(..), or in a local variable that is asked with in alone."""
+    nodes = list(ast.walk(function))
+    is_set = {id(node): node for node in nodes if isinstance(node, ast.SetComp) or is_call_of(node, ["set"])}
+    held = [node for node in nodes if isinstance(node, ast.Assign) and id(node.value) in is_set]
+    names = [target.id for node in held for target in node.targets if isinstance(target, ast.Name)]
+    fine = [id(node.value) for node in held]
+    fine += [id(node.args[0]) for node in nodes if is_call_of(node, ["len", "sorted"]) and node.args]
+    yield from [f"L24: line {node.lineno}" for mark, node in is_set.items() if mark not in fine]
+    asked = [id(side) for node in nodes if isinstance(node, ast.Compare)
+             if all(isinstance(sign, (ast.In, ast.NotIn)) for sign in node.ops) for side in node.comparators]
+    added = [id(node.value) for node in nodes if isinstance(node, ast.Attribute) and node.attr in ("add", "discard")]
+    for node in nodes:
+        if isinstance(node, ast.Name) and node.id in names and isinstance(node.ctx, ast.Load):
+            yield from [f"L24: line {node.lineno}"] * (id(node) not in asked + added)
+    yield from [f"L24: {name} is assigned twice" for name in set(names)
+                if len([node for node in nodes if isinstance(node, ast.Name) and node.id == name
+                        and isinstance(node.ctx, ast.Store)]) > 1]
+
+
+def import_faults(trees):
+    """L2, L16: imports take names from the files that define them, and never in a circle."""
+    reads = {}
+    for name, tree in trees.items():
+        imports = [part for part in tree.body if isinstance(part, ast.ImportFrom)]
+        reads[name] = [file_of(part) for part in imports]
+        yield from [f"{name}: L2, L16: line {part.lineno}" for part in imports if not is_right_import(trees, part)]
+        yield from [f"{name}: L16: an import"] * (name == "__init__.py" and imports != [])
+    yield from [f"{name}: L16: a circle" for name in reads if name in reached(reads, name)]
+
+
+def file_of(part):
+    """The file that an import reads."""
+    return f"{str(part.module).removeprefix(PACKAGE + '.')}.py"
+
+
+def is_right_import(trees, part):
+    """Whether an import takes names from the very file of the package that defines them."""
+    if part.level or not str(part.module).startswith(PACKAGE + ".") or file_of(part) not in trees:
+        return False
+    inner = [inner for inner in trees[file_of(part)].body if not isinstance(inner, ast.ImportFrom)]
+    defined = [name for thing in inner for name in bound_names(thing)]
+    return all(alias.name in defined and alias.asname is None for alias in part.names)
+
+
+def reached(reads, name):
+    """All files that a file reads, straight or through others."""
+    found, left = set(), list(reads[name])
+    while left:
+        file = left.pop()
+        if file not in found:
+            found.add(file)
+            left += reads.get(file, [])
+    return found

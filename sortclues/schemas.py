@@ -1,6 +1,6 @@
 """Schemas, and the rows and steps that belong to them."""
 
-from sortclues.errors import NoRow, NoSchema
+from sortclues.errors import NoColumns, NoRow, NoSchema, NoStep
 
 ORDERS = ("up first", "up last", "down first", "down last")
 MOST_COLUMNS = 6
@@ -34,6 +34,11 @@ def is_whole(thing):
     return isinstance(thing, int) and not isinstance(thing, bool)
 
 
+def is_number_below(many, thing):
+    """Tell whether thing is a whole number from 0 on that is less than many."""
+    return is_whole(thing) and 0 <= thing < many
+
+
 def is_value(thing):
     """Tell whether thing is a value: a whole number or empty."""
     return thing is None or is_whole(thing)
@@ -59,12 +64,34 @@ def is_step(schema, thing):
     if not isinstance(thing, tuple) or len(thing) != 2:
         return False
     column, order = thing
-    if not is_whole(column) or not 0 <= column < len(schema):
+    if not is_number_below(len(schema), column):
         return False
     return order in schema[column]
+
+
+def check_step(schema, step):
+    """Raise NoStep unless step is a step of the schema."""
+    if not is_step(schema, step):
+        raise NoStep("not a step of the schema")
 
 
 def all_steps(schema):
     """List all steps of the schema, column by column."""
     check_schema(schema)
     return [(column, order) for column, orders in enumerate(schema) for order in orders]
+
+
+def is_columns(schema, thing):
+    """Tell whether thing is a tuple of different columns of the schema."""
+    check_schema(schema)
+    if not isinstance(thing, tuple):
+        return False
+    if not all([is_number_below(len(schema), column) for column in thing]):
+        return False
+    return len(set(thing)) == len(thing)
+
+
+def check_columns(schema, columns):
+    """Raise NoColumns unless columns is a tuple of different columns of the schema."""
+    if not is_columns(schema, columns):
+        raise NoColumns("not a tuple of different columns of the schema")

@@ -17,10 +17,11 @@ NODES = (  # L4 to L7: what may stand in a function
     ast.Slice, ast.Tuple, ast.List, ast.Dict, ast.ListComp, ast.DictComp, ast.SetComp, ast.comprehension, ast.Call,
     ast.keyword, ast.Compare, ast.Eq, ast.NotEq, ast.Lt, ast.LtE, ast.Gt, ast.GtE, ast.Is, ast.IsNot, ast.In, ast.NotIn,
     ast.BoolOp, ast.And, ast.Or, ast.UnaryOp, ast.Not, ast.USub, ast.BinOp, ast.Add, ast.Sub, ast.Mult, ast.FloorDiv,
-    ast.Mod, ast.IfExp, ast.JoinedStr, ast.FormattedValue)
+    ast.Mod, ast.BitAnd, ast.BitOr, ast.LShift, ast.IfExp, ast.JoinedStr, ast.FormattedValue, ast.Yield)
 BUILTINS = (  # L8, without those whose use has rules of its own that are not checked here
     "len range enumerate zip min max sum abs sorted reversed int str bool list tuple dict set isinstance any all "
     "ValueError super").split()
+ITERATING = "list tuple dict sorted sum min max any all enumerate zip".split()  # L23
 METHODS = (  # L25, the first list
     "append clear copy count endswith extend find get index insert isalnum isalpha isdigit islower isspace isupper "
     "items join keys ljust lower lstrip partition pop remove replace reverse rfind rjust rpartition rsplit rstrip "
@@ -43,7 +44,7 @@ def faults(sources):
         found += [f"{name}: {fault}" for fault in text_faults(name, text)]
         trees[name] = ast.parse(text)
         found += [f"{name}: {fault}" for fault in file_faults(trees[name])]
-    return found + list(import_faults(trees))
+    return found + list(import_faults(trees)) + list(iteration_faults(trees))
 
 
 def text_faults(name, text):
@@ -158,6 +159,8 @@ def function_faults(function):
                 yield f"L4, L6, L7, L21: {type(node).__name__} in {function.name}"
     yield from [fault for node in ast.walk(function) for fault in node_faults(node)]
     yield from set_faults(function)
+    if is_generator(function):
+        yield from generator_faults(function)
 
 
 def node_faults(node):
@@ -184,6 +187,35 @@ def node_faults(node):
 def is_call_of(node, names):
     """Whether a piece of code is a call of one of these builtins."""
     return isinstance(node, ast.Call) and isinstance(node.func, ast.Name) and node.func.id in names
+
+
+def is_generator(function):
+    """Whether a function yields."""
+    return any(isinstance(node, ast.Yield) for node in ast.walk(function))
+
+
+def generator_faults(function):
+    """L23: a yield is a statement of its own, and nothing is returned beside it."""
+    alone = [id(node.value) for node in ast.walk(function) if isinstance(node, ast.Expr)]
+    for node in ast.walk(function):
+        is_inside = isinstance(node, ast.Yield) and id(node) not in alone
+        if is_inside or isinstance(node, ast.Return) and node.value is not None:
+            yield f"L23: line {node.lineno}"
+
+
+def iteration_faults(trees):
+    """L23: the call of a generator is iterated at once, and the generator stands nowhere else."""
+    functions = [(name, node) for name, tree in trees.items() for node in ast.walk(tree)
+                 if isinstance(node, ast.FunctionDef)]
+    generators = [function.name for _, function in functions if is_generator(function)]
+    for file, function in functions:
+        nodes = list(ast.walk(function))
+        fine = [id(node.iter) for node in nodes if isinstance(node, (ast.For, ast.comprehension))]
+        fine += [id(node.args[0]) for node in nodes if is_call_of(node, ITERATING) and node.args]
+        called = [id(node.func) for node in nodes if isinstance(node, ast.Call) and id(node) in fine]
+        named = [node for node in nodes if isinstance(node, ast.Name) and node.id in generators]
+        yield from [f"{file}: L23: line {node.lineno}" for node in named if id(node) not in called]
+        yield from [f"{file}: L23, L25: {function.name}"] * (function.name in generators and function.name in METHODS)
 
 
 def set_faults(function):

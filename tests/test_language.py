@@ -10,6 +10,7 @@ import language
 
 ROOT = pathlib.Path(__file__).resolve().parent.parent
 FOLDER = ROOT / language.PACKAGE
+MODULES = ["clues", "errors", "finding", "listing", "rules", "saying", "schemas"]
 
 # For each rule some files that break it.
 BROKEN = {
@@ -35,7 +36,12 @@ BROKEN = {
     "L19": ["class E(ValueError):\n    pass\n\n\ndef f():\n    raise E\n", "def f(e):\n    raise e\n"],
     "L20": ["def f(x, y):\n    return x is y\n", "def f(x):\n    return x is not x.y\n"],
     "L21": ["def f(x: int):\n    return x\n", "def f(x) -> int:\n    return x\n", "def f():\n    x: int = 1\n"],
-    "L23": ["def f(xs):\n    return zip(xs, xs)\n", "def f(xs):\n    ys = reversed(xs)\n    return list(ys)\n"],
+    "L23": ["def f(xs):\n    return zip(xs, xs)\n", "def f(xs):\n    ys = reversed(xs)\n    return list(ys)\n",
+            "def f(x):\n    y = yield x\n", "def f(x):\n    yield x\n    return x\n", "def find(x):\n    yield x\n",
+            "def g(x):\n    yield x\n\n\ndef f(x):\n    return g(x)\n",
+            "def g(x):\n    yield x\n\n\ndef f(x):\n    y = g(x)\n    return y\n",
+            "def g(x):\n    yield x\n\n\ndef f(x):\n    return [g]\n",
+            "def g(x):\n    yield x\n\n\ndef f(x):\n    return x in g(x)\n"],
     "L24": ["def f(xs):\n    return set(xs)\n", "def f(xs):\n    return [x for x in {x for x in xs}]\n",
             "def f(xs):\n    s = set(xs)\n    return s\n", "def f(xs):\n    for x in set(xs):\n        pass\n",
             "def f(xs):\n    s = set(xs)\n    s = set()\n    return 1 in s\n"],
@@ -54,7 +60,7 @@ class ThePackage(unittest.TestCase):
     def test_the_folder_holds_python_files_only(self):
         names = [path.name for path in FOLDER.iterdir() if path.name != "__pycache__"]
         self.assertEqual([name for name in names if not name.endswith(".py")], [])
-        self.assertTrue({"__init__.py", "errors.py", "schemas.py", "rules.py"} <= set(names))
+        self.assertTrue({"__init__.py"} | {f"{name}.py" for name in MODULES} <= set(names))
 
     def test_the_rules_of_the_language(self):
         sources = {path.name: path.read_bytes().decode("utf-8") for path in FOLDER.glob("*.py")}
@@ -67,11 +73,11 @@ class ThePackage(unittest.TestCase):
             self.assertEqual((done.returncode, done.stderr), (0, ""), path.name)
 
     def test_it_imports_nothing_from_outside(self):
-        code = ("import sys; before = set(sys.modules); import sortclues.rules; "
+        names = [f"sortclues.{name}" for name in MODULES]
+        code = (f"import sys; before = set(sys.modules); import {', '.join(names)}; "
                 "print(sorted(set(sys.modules) - before))")
         done = subprocess.run([sys.executable, "-S", "-c", code], cwd=ROOT, text=True, capture_output=True, check=True)
-        expected = ["sortclues", "sortclues.errors", "sortclues.rules", "sortclues.schemas"]
-        self.assertEqual(done.stdout, f"{expected}\n")
+        self.assertEqual(done.stdout, f"{['sortclues'] + sorted(names)}\n")
 
 
 class TheCheck(unittest.TestCase):
@@ -93,7 +99,10 @@ class TheCheck(unittest.TestCase):
 
     def test_it_passes_what_is_right(self):
         right = ("from sortclues.b import f\n\nX = (1, 'a', None)\n\n\ndef g(xs, y=-1):\n    s = set(xs)\n    y += 1\n"
-                 "    return [f(x) for x in xs if x in s and x is not None and len({z for z in xs}) > y]\n")
+                 "    return [f(x) for x in xs if x in s and x is not None and len({z for z in xs}) > y]\n"
+                 "\n\ndef h(xs, *, y=()):\n    for x in xs:\n        yield x | (1 << 2) & 3\n    return\n"
+                 "\n\ndef k(xs):\n    for x in h(xs):\n        return x\n"
+                 "    return [list(h(xs)), [x for x in h(xs)]]\n")
         self.assertEqual(language.faults(broken_package(right)), [])
 
 

@@ -6,10 +6,12 @@ import itertools
 import unittest
 
 from samples import NO_SCHEMAS, ODD, ORDERS, SCHEMA
+from wrong import NO_COLUMNS
 
 from sortclues import schemas
-from sortclues.errors import NoRow, NoSchema
-from sortclues.schemas import all_steps, check_row, is_row, is_schema, is_step
+from sortclues.errors import NoColumns, NoRow, NoSchema, NoStep
+from sortclues.schemas import (all_steps, check_columns, check_row, check_step, is_columns, is_row, is_schema,
+                               is_step)
 
 
 class TheExample(unittest.TestCase):
@@ -144,7 +146,26 @@ class Steps(unittest.TestCase):
                  (None, "up first"), ((0,), "up first"), ([], "up first"), (0, ["up first"]), (0, 0), ("0", "up first")]
         for thing in wrong + ODD + [None]:
             self.assertIs(is_step(SCHEMA, thing), False, thing)
+            self.assertRaises(NoStep, check_step, SCHEMA, thing)
         self.assertRaises(NoSchema, is_step, [], (0, "up first"))
+        self.assertRaises(NoSchema, check_step, [], (0, "up first"))
+        self.assertIsNone(check_step(SCHEMA, (1, "down last")))
+
+
+class Columns(unittest.TestCase):
+    def test_tuples_of_different_columns_in_any_order(self):
+        for many in range(4):
+            for columns in itertools.product(range(-1, 4), repeat=many):
+                expected = len(set(columns)) == many and set(columns) <= {0, 1, 2}
+                self.assertIs(is_columns(SCHEMA, columns), expected, columns)
+        self.assertIsNone(check_columns(SCHEMA, (2, 0)))
+
+    def test_what_is_no_columns(self):
+        for thing in NO_COLUMNS:
+            self.assertIs(is_columns(SCHEMA, thing), False, thing)
+            self.assertRaises(NoColumns, check_columns, SCHEMA, thing)
+        self.assertRaises(NoSchema, is_columns, [], ())
+        self.assertRaises(NoSchema, check_columns, [], None)
 
 
 class Errors(unittest.TestCase):

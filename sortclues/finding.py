@@ -46,8 +46,12 @@ def steps_without(schema, without):
 
 def rule_or_knot(schema, clues, branching, without):
     """Do what find does, with arguments that are known to be right."""
-    numbers = list(range(len(clues)))
-    word, found = tree_or_knot(steps_without(schema, without), clues, numbers, branching)
+    return rule_or_knot_of(steps_without(schema, without), clues, list(range(len(clues))), branching)
+
+
+def rule_or_knot_of(steps, clues, numbers, branching):
+    """Find a rule of the kind that branching means that explains these clues, or a knot among them."""
+    word, found = tree_or_knot(steps, clues, numbers, branching)
     if word == "rule" and branching == ():
         return ("rule", flat_of(found))
     return (word, found)

@@ -57,9 +57,14 @@ def check_tree(schema, tree):
         raise NoRule("not a tree of the schema")
 
 
+def is_rule(schema, thing):
+    """Tell whether thing is a flat rule or a tree of the schema."""
+    return is_flat(schema, thing) or is_tree(schema, thing)
+
+
 def check_rule(schema, rule):
     """Raise NoRule unless rule is a flat rule or a tree of the schema."""
-    if not is_flat(schema, rule) and not is_tree(schema, rule):
+    if not is_rule(schema, rule):
         raise NoRule("not a rule of the schema")
 
 

@@ -1,6 +1,6 @@
 """Schemas, and the rows and steps that belong to them."""
 
-from sortclues.errors import NoColumns, NoRow, NoSchema, NoStep
+from sortclues.errors import NoColumns, NoRow, NoRows, NoSchema, NoStep
 
 ORDERS = ("up first", "up last", "down first", "down last")
 MOST_COLUMNS = 6
@@ -56,6 +56,12 @@ def check_row(schema, row):
     """Raise NoRow unless row is a row of the schema."""
     if not is_row(schema, row):
         raise NoRow("not a row of the schema")
+
+
+def check_rows(schema, rows):
+    """Raise NoRows unless rows is a list of rows of the schema."""
+    if not isinstance(rows, list) or not all([is_row(schema, row) for row in rows]):
+        raise NoRows("not a list of rows of the schema")
 
 
 def is_step(schema, thing):

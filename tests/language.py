@@ -8,6 +8,8 @@ import ast
 import builtins
 import re
 
+from language_classes import SPECIAL, is_property, method_faults, operator_faults
+
 PACKAGE = "sortclues"
 LONGEST_FUNCTION, LONGEST_FILE, LONGEST_LINE = 40, 399, 120  # L10
 
@@ -17,16 +19,15 @@ NODES = (  # L4 to L7: what may stand in a function
     ast.Slice, ast.Tuple, ast.List, ast.Dict, ast.ListComp, ast.DictComp, ast.SetComp, ast.comprehension, ast.Call,
     ast.keyword, ast.Compare, ast.Eq, ast.NotEq, ast.Lt, ast.LtE, ast.Gt, ast.GtE, ast.Is, ast.IsNot, ast.In, ast.NotIn,
     ast.BoolOp, ast.And, ast.Or, ast.UnaryOp, ast.Not, ast.USub, ast.BinOp, ast.Add, ast.Sub, ast.Mult, ast.FloorDiv,
-    ast.Mod, ast.BitAnd, ast.BitOr, ast.LShift, ast.IfExp, ast.JoinedStr, ast.FormattedValue, ast.Yield)
+    ast.Mod, ast.Pow, ast.BitAnd, ast.BitOr, ast.LShift, ast.IfExp, ast.JoinedStr, ast.FormattedValue, ast.Yield)
 BUILTINS = (  # L8, without those whose use has rules of its own that are not checked here
     "len range enumerate zip min max sum abs sorted reversed int str bool list tuple dict set isinstance any all "
-    "ValueError super").split()
+    "divmod ValueError TypeError super property").split()
 ITERATING = "list tuple dict sorted sum min max any all enumerate zip".split()  # L23
-METHODS = (  # L25, the first list
+METHODS = (  # L25, the first list, one of the additional ones, and those of stored sets (L24)
     "append clear copy count endswith extend find get index insert isalnum isalpha isdigit islower isspace isupper "
     "items join keys ljust lower lstrip partition pop remove replace reverse rfind rjust rpartition rsplit rstrip "
-    "setdefault split splitlines startswith strip update upper values zfill bit_length").split()
-SPECIAL = ("__init__",)  # L5
+    "setdefault split splitlines startswith strip update upper values zfill bit_length isascii add discard").split()
 BARRED = (  # L17
     "register mro elements open input law version_info with_traceback add_note attrgetter breakpoint builtins compile "
     "copyright credits delattr dir eval exec exit gc getattr globals hasattr help id importlib license locals "
@@ -44,7 +45,8 @@ def faults(sources):
         found += [f"{name}: {fault}" for fault in text_faults(name, text)]
         trees[name] = ast.parse(text)
         found += [f"{name}: {fault}" for fault in file_faults(trees[name])]
-    return found + list(import_faults(trees)) + list(iteration_faults(trees))
+    found += [*import_faults(trees), *iteration_faults(trees), *own_call_faults(trees)]
+    return found + list(operator_faults(trees))
 
 
 def text_faults(name, text):
@@ -134,20 +136,22 @@ def class_faults(part):
         yield f"L5: the head of {part.name}"
     for place, inner in enumerate(part.body):
         if isinstance(inner, ast.FunctionDef):
-            yield from function_faults(inner)
-            yield from [f"L5: {inner.name}"] * (inner.name.startswith("__") and inner.name not in SPECIAL)
+            yield from function_faults(inner, is_method=True)
+            yield from method_faults(part, inner)
             yield from [f"L12, L17: {inner.name}"] * is_barred(inner.name)
         elif not (place == 0 and is_docstring(inner)):
             yield f"L5: line {inner.lineno}"
 
 
-def function_faults(function):
+def function_faults(function, is_method=False):
     """L4 to L25: one function or method."""
     if function.end_lineno - function.lineno >= LONGEST_FUNCTION:
         yield f"L10: {function.name} is long"
     arguments = function.args
-    if function.decorator_list or arguments.vararg or arguments.kwarg or arguments.posonlyargs:
+    if arguments.kwarg or arguments.posonlyargs or arguments.vararg and not is_method:
         yield f"L4: the head of {function.name}"
+    if function.decorator_list and not (is_method and is_property(function)):
+        yield f"L4, L5: the decorator of {function.name}"
     if function.returns or any(node.annotation for node in ast.walk(arguments) if isinstance(node, ast.arg)):
         yield f"L21: {function.name}"
     defaults = arguments.defaults + [default for default in arguments.kw_defaults if default]
@@ -175,13 +179,25 @@ def node_faults(node):
     if isinstance(node, ast.Raise) and node.exc is not None:
         if not (isinstance(node.exc, ast.Call) and isinstance(node.exc.func, ast.Name) and not node.exc.keywords):
             yield f"L19: line {node.lineno}"
-    if isinstance(node, ast.Call) and isinstance(node.func, ast.Attribute):
-        if node.func.attr not in METHODS + ["__init__"] or node.keywords:
-            yield f"L25: line {node.lineno}"
+    if isinstance(node, ast.BinOp) and isinstance(node.op, ast.Pow):
+        if not (isinstance(node.right, ast.Constant) and node.right.value in range(65)):
+            yield f"L27: an exponent in line {node.lineno}"
     if isinstance(node, ast.Call) and any(isinstance(part, ast.Starred) for part in node.args):
         yield f"L7: a star in line {node.lineno}"
     if isinstance(node, (ast.Assign, ast.Return)) and is_call_of(node.value, "zip range enumerate reversed".split()):
         yield f"L23: line {node.lineno}"
+
+
+def own_call_faults(trees):
+    """L22, L25: what is called with a dot is a method of builtin values or an own one."""
+    nodes = [(name, node) for name, tree in trees.items() for node in ast.walk(tree)]
+    own = [inner.name for _, node in nodes if isinstance(node, ast.ClassDef) for inner in node.body
+           if isinstance(inner, ast.FunctionDef)]
+    for name, node in nodes:
+        if isinstance(node, ast.Call) and isinstance(node.func, ast.Attribute):
+            attr = node.func.attr
+            if attr not in METHODS + own or node.keywords and attr in METHODS:
+                yield f"{name}: L22, L25: line {node.lineno}"
 
 
 def is_call_of(node, names):
@@ -227,6 +243,10 @@ def set_faults(function):
     fine = [id(node.value) for node in held]
     fine += [id(node.args[0]) for node in nodes if is_call_of(node, ["len", "sorted"]) and node.args]
     yield from [f"L24: line {node.lineno}" for mark, node in is_set.items() if mark not in fine]
+    for node in nodes:
+        if isinstance(node, ast.Attribute) and node.attr in ("add", "discard"):
+            if not (isinstance(node.value, ast.Name) and node.value.id in names):
+                yield f"L24, L25: line {node.lineno}"
     asked = [id(side) for node in nodes if isinstance(node, ast.Compare)
              if all(isinstance(sign, (ast.In, ast.NotIn)) for sign in node.ops) for side in node.comparators]
     added = [id(node.value) for node in nodes if isinstance(node, ast.Attribute) and node.attr in ("add", "discard")]

@@ -10,7 +10,12 @@ import language
 
 ROOT = pathlib.Path(__file__).resolve().parent.parent
 FOLDER = ROOT / language.PACKAGE
-MODULES = ["clues", "errors", "finding", "listing", "rules", "saying", "schemas"]
+MODULES = ["clues", "conflicts", "errors", "evidence", "finding", "listing", "rules", "saying", "schemas", "sorter",
+           "texts"]
+
+# A class with an order, some of whose methods each text below spoils.
+BOX = ("class Box:\n    def __init__(self, rows):\n        self.rows = rows\n\n"
+       "    def __le__(self, other):\n        return helper(self.rows)\n\n\n")
 
 # For each rule some files that break it.
 BROKEN = {
@@ -19,8 +24,24 @@ BROKEN = {
            "from sortclues.b import g", "from sortclues import b"],
     "L3": ["if True:\n    X = 1\n", "print(1)", "X: int = 1", "for k in (1, 2):\n    pass\n", "X = [1]\nX.append(2)\n",
            "async def f():\n    return 1\n"],
-    "L4": ["@f\ndef f(x):\n    return x\n", "def f(x=[]):\n    return x\n", "def f(x=len('')):\n    return x\n"],
-    "L5": ["class A:\n    def __hash__(self):\n        return 1\n", "class A(metaclass=1):\n    pass\n"],
+    "L4": ["@f\ndef f(x):\n    return x\n", "def f(*xs):\n    return xs\n",
+           "class A:\n    def f(x):\n        return x\n",
+           "def f(x=[]):\n    return x\n", "def f(x=len('')):\n    return x\n"],
+    "L5": ["class A:\n    def __hash__(self):\n        return 1\n", "class A(metaclass=1):\n    pass\n",
+           "class A:\n    def __le__(self, x):\n        return x\n",
+           "class A:\n    def __len__(self, *x):\n        return x\n",
+           "class A:\n    def __getitem__(self, at):\n        return at\n",
+           "class A:\n    def __iter__(self):\n        return self.rows\n",
+           "class A:\n    @staticmethod\n    def f(self):\n        return self\n",
+           "class A:\n    @property\n    def f(self, x):\n        return x\n",
+           "class A:\n    @property\n    def f(self):\n        self.n = 1\n        return 1\n",
+           "class A:\n    def __neg__(self):\n        self.rows.append(1)\n        return self\n",
+           BOX + "def helper(xs):\n    xs[0] = 1\n    return xs\n", BOX + "def helper(xs):\n    xs.append(1)\n",
+           BOX + "def helper(xs):\n    k = 0\n    k += len(xs)\n", BOX + "def helper(xs):\n    ys = xs\n    ys.pop()\n",
+           BOX + "def helper(xs):\n    for x in xs:\n        x.clear()\n", BOX + "def helper(f):\n    return f(1)\n",
+           BOX + "def helper(xs):\n    return inner(xs)\n\n\ndef inner(x):\n    x.n = 1\n",
+           BOX + "def f(xs):\n    return sorted(xs)\n", BOX + "def f(xs):\n    return max([x for x in xs])\n",
+           BOX + "def f(xs):\n    return sorted([int(x) for x in xs], key=len)\n"],
     "L6": ["def f():\n    global x\n    x = 1\n", "def f():\n    import os\n", "def f(x):\n    del x\n"],
     "L7": ["def f():\n    return 1.5\n", "def f(x):\n    return x / 2\n", "def f(x):\n    return {*x}\n",
            "def f(xs):\n    return f(*xs)\n", "def f():\n    return 1j\n", "def f(x):\n    return x @ x\n"],
@@ -33,6 +54,7 @@ BROKEN = {
             "def f():\n    map = 1\n", "from sortclues.b import f\n\n\ndef g(f):\n    return f\n"],
     "L17": ["def f(x):\n    return type(x)\n", "def f(law):\n    return law\n", "def f(x):\n    return x.mro\n",
             "X = 1  # a dataclass\n", "def f(x):\n    sys = x\n    return sys\n"],
+    "L18": ["class A:\n    def f(self):\n        self.f = 1\n"],
     "L19": ["class E(ValueError):\n    pass\n\n\ndef f():\n    raise E\n", "def f(e):\n    raise e\n"],
     "L20": ["def f(x, y):\n    return x is y\n", "def f(x):\n    return x is not x.y\n"],
     "L21": ["def f(x: int):\n    return x\n", "def f(x) -> int:\n    return x\n", "def f():\n    x: int = 1\n"],
@@ -44,10 +66,14 @@ BROKEN = {
             "def g(x):\n    yield x\n\n\ndef f(x):\n    return x in g(x)\n"],
     "L24": ["def f(xs):\n    return set(xs)\n", "def f(xs):\n    return [x for x in {x for x in xs}]\n",
             "def f(xs):\n    s = set(xs)\n    return s\n", "def f(xs):\n    for x in set(xs):\n        pass\n",
-            "def f(xs):\n    s = set(xs)\n    s = set()\n    return 1 in s\n"],
+            "def f(xs):\n    s = set(xs)\n    s = set()\n    return 1 in s\n", "def f(xs):\n    xs.add(1)\n"],
     "L25": ["def f(x):\n    return x.popitem()\n", "def f(x):\n    return x.to_bytes(2, 'big')\n",
-            "def f(x):\n    x.sort(key=1)\n", "def f(x):\n    return x.split(sep='a')\n"],
-    "L27": ["def f(x):\n    return '" + chr(37) + "d'\n", "X = '\\x41'", "X = '\\\\\\r'"],
+            "def f(x):\n    x.sort(key=1)\n", "def f(x):\n    return x.split(sep='a')\n",
+           "class A:\n    def find(self, x):\n        return self.find(x=x)\n"],
+    "L27": ["def f(x):\n    return 10 ** x\n", "def f():\n    return 10 ** 65\n",
+            "def f(x):\n    return '" + chr(37) + "d'\n", "X = '\\x41'", "X = '\\\\\\r'"],
+    "L28": ["class A:\n    def __len__(self):\n        return self.n\n",
+            "class A:\n    def __eq__(self, other):\n        x = 1\n        return x == other\n"],
 }
 
 
@@ -104,6 +130,15 @@ class TheCheck(unittest.TestCase):
                  "\n\ndef k(xs):\n    for x in h(xs):\n        return x\n"
                  "    return [list(h(xs)), [x for x in h(xs)]]\n")
         self.assertEqual(language.faults(broken_package(right)), [])
+        box = BOX + ("def helper(xs):\n    ys = list(xs)\n    parts = {}\n    ys[0] = 1\n    k = 0\n    k += 1\n"
+                     "    for x in ys:\n        parts.setdefault(x, []).append(k)\n    ys.append(10 ** 64)\n"
+                     "    return sorted([int(y) for y in ys]) == parts\n\n\nclass Other:\n    @property\n"
+                     "    def rows(self):\n        return [1]\n\n    def __iand__(self, other):\n"
+                     "        self.n = other\n        return self\n\n"
+                     "    def __getitem__(self, at):\n        return self.n\n\n"
+                     "    def __iter__(self):\n        raise TypeError('no')\n\n    def put(self, *rows):\n"
+                     "        self.put(rows)\n")
+        self.assertEqual(language.faults(broken_package(box)), [])
 
 
 if __name__ == "__main__":

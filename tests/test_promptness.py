@@ -1,17 +1,23 @@
 """Points 2 and 3: prompt answers for the largest questions, and returned things that are passed again."""
 
+import operator
 import random
 import time
 import unittest
 
-from samples import ORDERS, chance_flat, chance_tree
-from search import check_answer, check_rule, chance_clues, explains, told_clues
+from samples import ORDERS, chance_flat, chance_tree, opinion, tuples_of_four, wide_tree
+from search import check_answer, check_knot, check_rule, chance_clues, explains, told_clues
 
 from sortclues.clues import broken, is_clue, stance
+from sortclues.conflicts import implied, lean, least_conflict
+from sortclues.errors import NoText, Unexplained
+from sortclues.evidence import Evidence
 from sortclues.finding import find, groups, is_knot
 from sortclues.listing import all_rules, how_many, question, teach
-from sortclues.rules import tree_of
+from sortclues.rules import compare, tree_of
 from sortclues.saying import is_bar, must_branch, needed, says, usable
+from sortclues.sorter import Sorter
+from sortclues.texts import (clue_text, clues_text, flat_text, read_clue, read_clues, read_flat, read_tree, tree_text)
 
 SCHEMA = [ORDERS] * 6
 ALL = (0, 1, 2, 3, 4, 5)
@@ -51,7 +57,7 @@ def large_cases():
                                     for at in range(32)] + [("not behind", row, other)] * 8}
 
 
-class Promptness(unittest.TestCase):
+class Prompt(unittest.TestCase):
     def setUp(self):
         self.cases = large_cases()
 
@@ -59,9 +65,11 @@ class Promptness(unittest.TestCase):
         """What the function returns, within half a second."""
         start = time.perf_counter()
         got = function(*arguments, **named)
-        self.assertLess(time.perf_counter() - start, 0.5, function.__name__)
+        self.assertLess(time.perf_counter() - start, 0.5, getattr(function, "__name__", function))
         return got
 
+
+class Functions(Prompt):
     def test_find_and_groups_and_is_knot(self):
         words = {}
         for name, clues in self.cases.items():
@@ -129,6 +137,143 @@ class Promptness(unittest.TestCase):
                 self.assertEqual(got, [at for at, clue in enumerate(clues) if not explains(rule, [clue])])
             self.assertTrue(all(self.promptly(is_clue, SCHEMA, clue) for clue in clues))
             self.promptly(stance, SCHEMA, (5, "down last"), clues[-1])
+
+
+class Conflicts(Prompt):
+    def test_implied(self):
+        for clues in self.cases.values():
+            for branching in ((), (5, 3, 1), ALL):
+                for clue in (clues[0], clues[-1], ("alike", *clues[7][1:]), ("ahead", clues[7][2], clues[0][1])):
+                    word, found = self.promptly(implied, SCHEMA, clues, clue, branching=branching)
+                    if word == "rule":
+                        check_rule(self, SCHEMA, clues, found, branching)
+                        self.assertFalse(explains(found, [clue]))
+
+    def test_least_conflict_and_lean(self):
+        for name, clues in self.cases.items():
+            for branching in ((), (5, 3, 1), ALL):
+                if find(SCHEMA, clues, branching=branching)[0] == "knot":
+                    numbers, rules = self.promptly(least_conflict, SCHEMA, clues, branching=branching)
+                    check_knot(self, SCHEMA, clues, numbers, branching)
+                    self.assertLessEqual((len(numbers), len(rules)), (13, len(numbers)))
+                    for at, rule in enumerate(rules):
+                        others = [clues[number] for number in numbers[:at] + numbers[at + 1:]]
+                        check_rule(self, SCHEMA, others, rule, branching)
+                else:
+                    left = self.promptly(lean, SCHEMA, clues, branching=branching)
+                    if "all equal" in name:
+                        self.assertEqual(left, [] if "none ahead" in name else [39])
+                    one = Evidence(SCHEMA, [clues[number] for number in left], branching=branching)
+                    other = Evidence(SCHEMA, clues, branching=branching)
+                    self.assertIs(self.promptly(operator.le, one, other), True)
+
+
+class Evidences(Prompt):
+    def test_each_method(self):
+        for clues in self.cases.values():
+            for branching in ((), (4, 2), ALL):
+                evidence = self.promptly(Evidence, SCHEMA, clues, branching=branching)
+                other = Evidence(SCHEMA, tuple(clues[::-1]), branching=branching[::-1])
+                self.assertIs(self.promptly(operator.le, evidence, other), True)
+                self.assertIs(self.promptly(operator.eq, evidence, other), clues == clues[::-1])
+                self.assertEqual(len(self.promptly(operator.and_, evidence, other)), 40)
+                self.assertIs(self.promptly(operator.iand, evidence, other), evidence)
+                self.assertIs(self.promptly(operator.contains, evidence, clues[39]), True)
+                self.assertEqual(self.promptly(evidence.find), find(SCHEMA, clues, branching=branching))
+                for call, *rows in ((evidence.sorter,), (evidence.says, clues[0][1], clues[1][2])):
+                    try:
+                        self.promptly(call, *rows)
+                    except Unexplained:
+                        self.assertEqual(evidence.find()[0], "knot")
+
+    def test_long_chains_of_changes_and_of_back(self):
+        clues = self.cases["by chance"]
+
+        def change(evidence):
+            for at in range(1000):
+                evidence.see(*clues[at % 40])
+                evidence[0] = clues[at % 7]
+                evidence.drop(len(evidence) - 1)
+
+        def all_back(evidence):
+            many = 0
+            while evidence.back():
+                many += 1
+            return many
+
+        evidence = Evidence(SCHEMA, clues[:39])
+        for _ in range(5):
+            self.promptly(change, evidence)
+        self.assertEqual(len(evidence), 39)
+        self.assertEqual(self.promptly(all_back, evidence), 15000)
+        self.assertEqual(evidence.clues(), clues[:39])
+
+    def test_chains_of_forty_rows(self):
+        chance = random.Random(65)
+        for branching in ((), ALL):
+            tree = chance_tree(chance, SCHEMA, list(VALUES))
+            rows = Sorter(SCHEMA, tree).arranged([tuple(chance.choices(VALUES, k=6)) for _ in range(40)])
+            evidence = Evidence(SCHEMA, branching=branching)
+            self.promptly(evidence.chain, *rows)
+            self.assertIs(self.promptly(evidence.sorter).shown(rows), True)
+
+
+class Sorters(Prompt):
+    def test_sixty_rows(self):
+        chance = random.Random(66)
+        wide = (0, "up last", [(LARGE - at, (1, "down first", [(value, None) for value in range(30)], None))
+                               for at in range(299)], None)
+        rules = [[], None, wide, [(column, "down last") for column in (3, 1, 5, 0, 2, 4)],
+                 wide_tree(ALL[:2], 17), chance_tree(chance, SCHEMA, list(VALUES))]
+        lists = [[tuple(chance.choices(VALUES, k=6)) for _ in range(60)], [(LARGE,) * 6] * 60,
+                 [(LARGE - at % 5, at % 3, LARGE, None, 0, -at) for at in range(60)]]
+        for rule in rules:
+            sorter = self.promptly(Sorter, SCHEMA, rule)
+            self.assertEqual(self.promptly(lambda: sorter.rule), rule)
+            self.assertIs(self.promptly(operator.eq, sorter, Sorter(SCHEMA, rule)), True)
+            self.assertIs(self.promptly(operator.eq, -self.promptly(operator.neg, sorter), sorter), True)
+            for rows in lists:
+                got = self.promptly(sorter.arranged, rows)
+                self.assertEqual(sorted(got, key=str), sorted(rows, key=str))
+                self.assertIs(self.promptly(sorter.shown, got), True)
+                self.assertTrue(all(opinion(rule, x, y) != 1 for x, y in zip(got, got[1:])))
+                self.assertEqual(self.promptly(sorter, *rows[:2]), compare(SCHEMA, rule, *rows[:2]))
+
+
+class Texts(Prompt):
+    def test_trees_of_300_tuples(self):
+        deep = None
+        for column in ALL:
+            deep = (column, "up first", [(LARGE - value, deep if value < 2 else None) for value in range(30)], deep)
+        wide = (0, "up last", [(-at, (1, "down first", [], None)) for at in range(299)], None)
+        for tree in (deep, wide, wide_tree((3, 1, 4), 17)):
+            self.assertGreaterEqual(tuples_of_four(tree), 300)
+            text = self.promptly(tree_text, tree)
+            self.assertEqual(self.promptly(read_tree, SCHEMA, text), tree)
+            with self.assertRaises(NoText) as caught:
+                self.promptly(read_tree, SCHEMA, text[:-1])
+            self.assertEqual(caught.exception.line, len(text.split("\n")))
+
+    def test_texts_of_4000_characters(self):
+        number = "-" + "7" * 3980
+        clue = self.promptly(read_clue, [ORDERS], f"{number} ahead empty")
+        self.assertEqual(self.promptly(clue_text, clue), f"{number} ahead empty")
+        for text in ("\n" * 4000, " " * 4000, "0" * 4000, ":" * 4000, ", " * 2000, "0 up last, " * 360, "alike\n" * 660,
+                     "0 up last\n" * 400, "  " * 2000 + "alike", "7" * 4000 + ":", "-" * 4000, "empty " * 660):
+            for read in (read_flat, read_tree, read_clue, read_clues):
+                with self.assertRaises(NoText) as caught:
+                    self.promptly(read, SCHEMA, text)
+                self.assertIn(caught.exception.line, (1, 2))
+        many = "0 up last\n" + "".join(f"{at}:\n  alike\n" for at in range(270)) + "else:\n  alike"
+        self.assertLess(len(many), 4000)
+        self.assertEqual(self.promptly(tree_text, self.promptly(read_tree, SCHEMA, many)), many)
+        self.assertEqual(self.promptly(read_flat, SCHEMA, flat_text([(5, "up last"), (0, "up last")])),
+                         [(5, "up last"), (0, "up last")])
+
+    def test_texts_of_forty_clues(self):
+        for clues in self.cases.values():
+            text = self.promptly(clues_text, clues)
+            self.assertEqual(self.promptly(read_clues, SCHEMA, text), clues)
 
 
 class PassedAgain(unittest.TestCase):

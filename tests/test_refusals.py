@@ -1,4 +1,4 @@
-"""Points 4, 6 and 9 to 17: which error each function raises, and which one first."""
+"""Points 4, 6, 9 to 18 and 21: which error each function raises, and which one first."""
 
 import copy
 import itertools
@@ -9,10 +9,12 @@ from wrong import CLUE, HIGH, LOW, NO_CLUE, NO_CLUES, NO_COLUMNS, NO_NUMBERS, NO
 
 from sortclues import errors
 from sortclues.clues import broken, is_clue, stance
+from sortclues.conflicts import implied, lean, least_conflict
 from sortclues.finding import find, groups, is_knot
 from sortclues.listing import all_rules, how_many, question, teach
 from sortclues.rules import is_flat, is_tree
 from sortclues.saying import is_bar, must_branch, needed, says, usable
+from sortclues.texts import read_clue, read_clues, read_flat, read_tree
 
 LEAF = (1, "down last", [], None)
 NO_FLAT = [thing for thing in ODD if thing != []] + [
@@ -24,7 +26,7 @@ NO_RULE = [thing for thing in NO_FLAT if thing not in (None, LEAF)] + [
 
 RIGHT = {"schema": SCHEMA, "clues": [CLUE, ("alike", HIGH, HIGH)], "rule": [(0, "up first")],
          "flat": [(2, "up last")], "step": (0, "up last"), "clue": CLUE, "x": LOW, "y": HIGH, "branching": (2, 0),
-         "without": (1,), "before": (1,), "numbers": [0, 1], "thing": None}
+         "without": (1,), "before": (1,), "numbers": [0, 1], "thing": None, "text": ""}
 WRONG = {"schema": ("NoSchema", NO_SCHEMAS), "clues": ("NoClues", NO_CLUES), "rule": ("NoRule", NO_RULE),
          "flat": ("NoRule", NO_FLAT), "step": ("NoStep", NO_STEPS), "clue": ("NoClue", NO_CLUE),
          "x": ("NoRow", NO_ROWS), "y": ("NoRow", NO_ROWS), "branching": ("NoColumns", NO_COLUMNS),
@@ -37,7 +39,13 @@ REFUSED = {
     is_knot: ("schema", "clues", "branching", "without", "numbers"), how_many: ("schema", "clues"),
     question: ("schema", "clues"), teach: ("schema", "flat"), says: ("schema", "clues", "x", "y", "branching"),
     needed: ("schema", "clues", "branching"), must_branch: ("schema", "clues"),
-    usable: ("schema", "clues", "step", "before"), is_bar: ("schema", "clues", "step", "before", "numbers")}
+    usable: ("schema", "clues", "step", "before"), is_bar: ("schema", "clues", "step", "before", "numbers"),
+    implied: ("schema", "clues", "clue", "branching"), least_conflict: ("schema", "clues", "branching"),
+    lean: ("schema", "clues", "branching"), read_flat: ("schema", "text"), read_tree: ("schema", "text"),
+    read_clue: ("schema", "text"), read_clues: ("schema", "text")}
+# Right arguments of these functions alone.
+OWN = {least_conflict: {"clues": [CLUE, ("ahead", HIGH, HIGH)]}, read_tree: {"text": "alike"},
+       read_clue: {"text": "1 2 3 ahead 4 empty 6"}}
 
 # Right lists of clues that no rule explains, whatever it branches at.
 UNEXPLAINED = [[("ahead", LOW, LOW)], [CLUE, ("ahead", HIGH, LOW)], [("alike", LOW, HIGH), CLUE]]
@@ -62,7 +70,8 @@ class Refusals(unittest.TestCase):
 
     def arguments(self, function, **wrong):
         """Right arguments for the function, but for those that are given."""
-        return {**{name: copy.deepcopy(RIGHT[name]) for name in REFUSED[function]}, **copy.deepcopy(wrong)}
+        right = {name: RIGHT[name] for name in REFUSED[function]}
+        return copy.deepcopy({**right, **OWN.get(function, {}), **wrong})
 
     def test_right_arguments_are_taken_and_not_changed(self):
         for function in REFUSED:
@@ -101,7 +110,7 @@ class Refusals(unittest.TestCase):
                     self.raises("NoSchema", function, self.arguments(function, schema=schema, clues=[]))
 
     def test_unexplained_behind_all_else(self):
-        for function in (says, needed, must_branch, usable):
+        for function in (says, needed, must_branch, usable, lean):
             for clues in UNEXPLAINED:
                 self.raises("Unexplained", function, self.arguments(function, clues=clues))
                 for name in REFUSED[function]:
@@ -110,8 +119,14 @@ class Refusals(unittest.TestCase):
                         for thing in things[::5]:
                             self.raises(error, function, self.arguments(function, clues=clues, **{name: thing}))
 
+    def test_explained_behind_all_else(self):
+        for clues in ([], [CLUE], [("alike", LOW, HIGH)]):
+            self.raises("Explained", least_conflict, self.arguments(least_conflict, clues=clues))
+            for columns in NO_COLUMNS:
+                self.raises("NoColumns", least_conflict, self.arguments(least_conflict, clues=clues, branching=columns))
+
     def test_the_others_take_clues_that_no_rule_explains(self):
-        for function in (broken, find, is_knot, groups, how_many, question, is_bar, walk):
+        for function in (broken, find, is_knot, groups, how_many, question, is_bar, walk, implied, least_conflict):
             for clues in UNEXPLAINED:
                 function(**self.arguments(function, clues=clues))
 
@@ -122,6 +137,7 @@ class Refusals(unittest.TestCase):
                 self.raises("NoClues", function, self.arguments(function, **wide))
         self.raises("NoClues", broken, self.arguments(broken, **wide))
         self.raises("NoClue", stance, self.arguments(stance, **wide))
+        self.raises("NoClue", implied, self.arguments(implied, clues=[], **wide))
         self.raises("NoRow", says, self.arguments(says, clues=[], branching=(3,), **wide))
         self.raises("NoStep", usable, self.arguments(usable, step=(0, "down first")))
         self.raises("NoRule", teach, self.arguments(teach, schema=SCHEMA[:2]))
@@ -134,7 +150,10 @@ class Refusals(unittest.TestCase):
                      (is_knot, {"numbers": [], "branching": (column,)}),
                      (is_knot, {"numbers": [], "without": (column,)}),
                      (says, {"x": (0,) * many, "y": (1,) * many, "branching": (column,)}),
-                     (needed, {"branching": (column,)}), (usable, {"step": (0, "up last"), "before": (column,)}),
+                     (needed, {"branching": (column,)}), (lean, {"branching": (column,)}),
+                     (implied, {"clue": ("ahead", (0,) * many, (1,) * many), "branching": (column,)}),
+                     (least_conflict, {"clues": [("ahead", (0,) * many, (0,) * many)], "branching": (column,)}),
+                     (usable, {"step": (0, "up last"), "before": (column,)}),
                      (is_bar, {"step": (0, "up last"), "numbers": [], "before": (column,)})]
             for function, named in calls:
                 arguments = {"schema": schema, "clues": [], **named}
